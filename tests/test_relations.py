@@ -1,21 +1,9 @@
 """Tests of [2.1] to [2.3]."""
 
-import random
-
 from earliestlots.errors import BadCount, BadRelation, BadStanding, OtherPlaces, TooMany
 from earliestlots.relations import (
     Relation, empty_relation, full_relation, join_of, left_out, meet_of, one_standing, turned_relation)
-from tests.helper import NO_NUMBERS, NO_SEQUENCES, Checks, standings_by_trying, subsets
-
-# All relations of at most 2 places.
-SMALL = [Relation(places, chosen) for places in range(3) for chosen in subsets(standings_by_trying(places))]
-
-
-def some_relations(places, many):
-    """Some relations of so many places, the same ones at each run."""
-    picker = random.Random(places)
-    standings = standings_by_trying(places)
-    return [Relation(places, picker.sample(standings, picker.randint(0, len(standings)))) for _ in range(many)]
+from tests.helper import NO_NUMBERS, NO_SEQUENCES, Checks, small_relations, some_relations, standings_by_trying
 
 
 class RelationTests(Checks):
@@ -85,7 +73,8 @@ class RelationTests(Checks):
     def test_holds_is_false_for_anything_else(self):
         relation = full_relation(2)
         for thing in NO_SEQUENCES + (
-                (), (0,), (0, 1, 2), (0, 2), (1, 1), (0, "1"), (0, 1.0), (0.0, 1), [[0], 1], [{}, 1], (None, 0), (-1, 0)):
+                (), (0,), (0, 1, 2), (0, 2), (1, 1), (0, "1"), (0, 1.0), (0.0, 1), [[0], 1], [{}, 1], (None, 0),
+                (-1, 0)):
             self.assertIs(relation.holds(thing), False)
         self.assertIs(Relation(0, [()]).holds(""), False)
         self.assertIs(Relation(0, [()]).holds([]), True)
@@ -136,8 +125,8 @@ class SetsTests(Checks):
         self.assertEqual(join_of(one, other), Relation(one.places, sorted(here | there)))
 
     def test_meets_and_joins(self):
-        for one in SMALL:
-            for other in SMALL:
+        for one in small_relations():
+            for other in small_relations():
                 if one.places == other.places:
                     self.check_pair(one, other)
         for places in (3, 4):
@@ -154,14 +143,14 @@ class SetsTests(Checks):
                     self.wrong(OtherPlaces, {}, join_of, empty_relation(one), empty_relation(other))
 
     def test_left_out(self):
-        for relation in SMALL + some_relations(3, 20) + some_relations(4, 10):
+        for relation in small_relations() + some_relations(3, 20) + some_relations(4, 10):
             rest = [standing for standing in standings_by_trying(relation.places) if standing not in relation.members]
             self.assertEqual(left_out(relation), Relation(relation.places, rest))
             self.assertEqual(left_out(left_out(relation)), relation)
 
     def test_turned_relation(self):
         self.same(turned_relation(Relation(3, [(0, 1, 1), (0, 1, 2)])).members, ((1, 0, 0), (2, 1, 0)))
-        for relation in SMALL + some_relations(3, 20) + some_relations(4, 10):
+        for relation in small_relations() + some_relations(3, 20) + some_relations(4, 10):
             turned = [[max(member) - rank for rank in member] if member else () for member in relation.members]
             self.assertEqual(turned_relation(relation), Relation(relation.places, turned))
             self.assertEqual(turned_relation(turned_relation(relation)), relation)

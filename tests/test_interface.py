@@ -1,0 +1,74 @@
+"""Tests that the interface of the document is there: names, arguments, and in which file each is defined."""
+
+import importlib
+import inspect
+import unittest
+
+FUNCTIONS = {
+    "standings": (
+        "is_whole(thing, low=None, high=None)", "check_standing(ranks, places=None)", "standing_of(keys)",
+        "check_places(places, many)", "cut_down(standing, places)", "ranks_number(standing)",
+        "turned_standing(standing)", "front_of(standing)", "layers_of(standing)", "standing_of_layers(layers)"),
+    "countings": (
+        "choose_of(many, taken)", "power_of(base, exponent)", "all_standings(places)", "count_standings(places)",
+        "number_of_standing(standing)", "standing_of_number(places, number)"),
+    "dates": (
+        "check_dates(dates, size, most=7)", "unlike_dates(dates)", "check_lot(lot, among)", "lot_key(lot)",
+        "sorted_lots(lots)"),
+    "standtext": ("standing_text(standing)", "standing_of_text(text)"),
+    "relations": (
+        "full_relation(places)", "empty_relation(places)", "one_standing(standing)", "meet_of(one, other)",
+        "join_of(one, other)", "left_out(relation)", "turned_relation(relation)", "Relation(places, standings)"),
+    "named": (
+        "before_relation()", "not_after_relation()", "tied_relation()", "unlike_relation()", "between_relation()",
+        "two_first_relation()", "after_one_of(places)", "after_all_of(places)", "with_or_after_one_of(places)"),
+    "joining": (
+        "renamed(relation, places)", "without_place(relation, place)", "set_beside(one, other)",
+        "defined_by(size, parts, shown)", "made_equal(relation, dates)"),
+    "linings": (
+        "all_linings(first, second)", "count_linings(first, second)", "check_lining(one, other, lining)",
+        "moments_of(one, other, lining)", "lining_of(numbers, others)", "cut_lining(one, other, lining, places)"),
+    "deeds": (
+        "check_deed(deed)", "made_by(deed, one, other, lining)", "taken_over(one, cut, other)",
+        "over_lining(one, cut, other)", "all_made(deed, one, other)", "lining_for(deed, one, other, wanted)"),
+    "keeps": (
+        "is_kept(relation, deed)", "broken_by(relation, deed)", "broken_over(relation)",
+        "broken_fault(relation, deed, broken)", "over_fault(relation, broken)", "grown_fault(relation, deed, steps)",
+        "grown_by(relation, deed)", "grown_over(relation)", "grown_steps(relation, deed)",
+        "Broken(one, other, lining)", "BrokenOver(one, cut, other)"),
+    "lots": (
+        "earliest_lots(relation)", "rest_by(relation, lot)", "rest_after(relation, lots)", "closing_of(deed)",
+        "combined_lots(closing, one, other)", "greatest_within(lots, places)", "least_holding(lots, places)",
+        "equations_of(lots, places)"),
+}
+
+METHODS = {
+    ("relations", "Relation"): ("__init__", "__len__", "__iter__", "__eq__", "holds"),
+    ("keeps", "Broken"): ("__init__", "__eq__"),
+    ("keeps", "BrokenOver"): ("__init__", "__eq__"),
+}
+
+
+class InterfaceTests(unittest.TestCase):
+
+    def test_names_and_arguments(self):
+        for module, rows in FUNCTIONS.items():
+            held = importlib.import_module(f"earliestlots.{module}")
+            for row in rows:
+                name = row.split("(")[0]
+                thing = getattr(held, name)
+                self.assertEqual(name + str(inspect.signature(thing)), row)
+                self.assertEqual(thing.__module__, f"earliestlots.{module}", name)
+
+    def test_methods_stand_in_their_class(self):
+        for (module, name), methods in METHODS.items():
+            found = vars(getattr(importlib.import_module(f"earliestlots.{module}"), name))
+            for method in methods:
+                self.assertIn(method, found)
+        relation = importlib.import_module("earliestlots.relations").Relation
+        self.assertEqual(str(inspect.signature(relation.holds)), "(self, standing)")
+
+    def test_generators(self):
+        for module, name in (("countings", "all_standings"), ("linings", "all_linings")):
+            held = importlib.import_module(f"earliestlots.{module}")
+            self.assertTrue(inspect.isgeneratorfunction(getattr(held, name)))
