@@ -106,7 +106,7 @@ class NoLot(DateError):
 
 
 class BadClosing(DateError):
-    """This is none of the three closings, or fewer than two lots were passed."""
+    """This is none of the three closings."""
 
 
 class BadStray(DateError):

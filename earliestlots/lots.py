@@ -18,13 +18,13 @@ def earliest_lots(relation):
 
 def rest_by(relation, lot):
     """The members with just this front, cut down to the other places."""
-    taken = _fitting_lot(relation, tuple(range(relation.places)), lot)
+    taken = lot_as_places(relation, tuple(range(relation.places)), lot)
     if taken is None:
         raise NoLot(0)
-    return _rest_behind(relation, taken)
+    return _rest_by_lot(relation, taken)
 
 
-def _fitting_lot(rest, left, lot):
+def lot_as_places(rest, left, lot):
     """The lot as places of the rest if it can be taken there, else None; left are the rest's places as named."""
     try:
         named = check_lot(lot, left)
@@ -34,10 +34,15 @@ def _fitting_lot(rest, left, lot):
     return taken if taken in earliest_lots(rest) else None
 
 
-def _rest_behind(relation, lot):
+def _rest_by_lot(relation, lot):
     """The rest by an earliest lot; nothing is checked."""
-    others = [place for place in range(relation.places) if place not in lot]
+    others = places_outside(relation, lot)
     return Relation(len(others), [cut_down(member, others) for member in relation if front_of(member) == lot])
+
+
+def places_outside(relation, lot):
+    """The places of the relation that are not in the lot, ascending."""
+    return tuple([place for place in range(relation.places) if place not in lot])
 
 
 def rest_after(relation, lots):
@@ -47,12 +52,19 @@ def rest_after(relation, lots):
     left = tuple(range(relation.places))
     rest = relation
     for index, lot in enumerate(lots):
-        taken = _fitting_lot(rest, left, lot)
+        taken = lot_as_places(rest, left, lot)
         if taken is None:
             raise NoLot(index)
-        rest = _rest_behind(rest, taken)
+        rest = _rest_by_lot(rest, taken)
         left = tuple([place for place in left if place not in lot])
     return (left, rest)
+
+
+def check_closing(closing):
+    """The closing; BadClosing for anything else."""
+    if closing not in list(CLOSINGS.values()):
+        raise BadClosing()
+    return closing
 
 
 def closing_of(deed):
@@ -62,13 +74,12 @@ def closing_of(deed):
 
 def combined_lots(closing, one, other):
     """The places of the two lots, combined as the closing tells, ascending."""
+    check_closing(closing)
     if closing == "joining":
         return tuple(sorted(set(one) | set(other)))
     if closing == "sums":
         return tuple(sorted(set(one) ^ set(other)))
-    if closing == "meets":
-        return tuple(sorted(set(one) & set(other)))
-    raise BadClosing()
+    return tuple(sorted(set(one) & set(other)))
 
 
 def greatest_within(lots, places):

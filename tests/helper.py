@@ -1,11 +1,15 @@
 """What the tests of several modules need: checks, wrong values, and standings by trying all rows."""
 
 import copy
+import functools
 import random
 import unittest
-from itertools import combinations, product
+from itertools import combinations, permutations, product
 
+from earliestlots.books import Book
+from earliestlots.closings import kept_by_lots
 from earliestlots.relations import Relation
+from earliestlots.rests import over_by_lots
 
 # None of these is an integer from 0.
 NO_NUMBERS = (True, False, None, "0", "", 1.0, 0.0, -1, -7, (0,), [0], [], {}, b"0", 1j)
@@ -60,6 +64,12 @@ def kinds_of(thing):
 
 def standings_by_trying(places):
     """All standings of so many places, found among all rows of ranks below places."""
+    return list(_standings_by_trying(places))
+
+
+@functools.cache
+def _standings_by_trying(places):
+    """What standings_by_trying returns."""
     rows = product(range(places), repeat=places)
     return [row for row in rows if set(row) == set(range(max(row, default=-1) + 1))]
 
@@ -90,6 +100,78 @@ def some_relations(places, many):
     picker = random.Random(places)
     standings = standings_by_trying(places)
     return [Relation(places, picker.sample(standings, picker.randint(0, len(standings)))) for _ in range(many)]
+
+
+def thin_relations(places, many, most):
+    """Some relations of so many places with at most so many members, the same ones at each run."""
+    picker = random.Random(places * 100 + most)
+    standings = standings_by_trying(places)
+    return [Relation(places, picker.sample(standings, picker.randint(0, most))) for _ in range(many)]
+
+
+def relations_but_for_renaming(places):
+    """Of all relations of so many places, one of each that differ by the names of their places only."""
+    standings = standings_by_trying(places)
+    orders = [[standings.index(part_of(standing, order)) for standing in standings]
+              for order in permutations(range(places))]
+    found = []
+    for chosen in product((0, 1), repeat=len(standings)):
+        if all(tuple(chosen[at] for at in order) <= chosen for order in orders):
+            found.append(Relation(places, [standing for standing, use in zip(standings, chosen) if use]))
+    return found
+
+
+def front(member):
+    """The places of rank 0."""
+    return tuple(place for place, rank in enumerate(member) if rank == 0)
+
+
+@functools.cache
+def layers(member):
+    """For each rank its places."""
+    return tuple(tuple(place for place, rank in enumerate(member) if rank == layer) for layer in sorted(set(member)))
+
+
+def standing_with(rows):
+    """The standing with these layers."""
+    ranks = {place: rank for rank, row in enumerate(rows) for place in row}
+    return tuple(ranks[place] for place in range(len(ranks)))
+
+
+def lots_as_told(relation):
+    """The earliest lots, by trying all lots in their order."""
+    return tuple(lot for lot in subsets(range(relation.places))[1:] if lot in [front(row) for row in relation.members])
+
+
+def rest_as_told(relation, lot):
+    """The rest by an earliest lot."""
+    others = [place for place in range(relation.places) if place not in lot]
+    members = [part_of(member, others) for member in relation.members if front(member) == lot]
+    return Relation(len(others), members)
+
+
+def row_order(row):
+    """What rows of lots are ordered by."""
+    return [(len(lot), lot) for lot in row]
+
+
+def rows_as_told(relation):
+    """All rows of lots behind which a place is left, in their order, with the places left and the rest."""
+    return list(_rows_as_told(relation.places, relation.members))
+
+
+@functools.lru_cache(4000)
+def _rows_as_told(places, members):
+    """What rows_as_told returns for the relation with these members."""
+    if places == 0:
+        return []
+    rows = {layers(member)[:many] for member in members for many in range(len(layers(member)))} | {()}
+    found = []
+    for row in sorted(rows, key=row_order):
+        left = tuple(place for place in range(places) if not any(place in lot for lot in row))
+        rest = [part_of(member, left) for member in members if layers(member)[:len(row)] == row]
+        found.append((row, left, Relation(len(left), rest)))
+    return found
 
 
 def linings_by_trying(first, second):
@@ -142,3 +224,50 @@ def kept_as_told(relation, deed):
 def over_as_told(one, cut, other):
     """What one taken over by other at the cut is, by the keys as [3.7] lists them."""
     return ranked([(0, rank) if rank < cut else (1, beside) for rank, beside in zip(one, other)])
+
+
+def fits_as_told(dating, fact):
+    """Whether the dating, cut down to the dates of the fact place by place, is a member of its relation."""
+    relation, dates = fact
+    return ranked([dating[date] for date in dates]) in relation.members
+
+
+def datings_as_told(book):
+    """All datings of the book, by trying all standings."""
+    return [standing for standing in standings_by_trying(book.size)
+            if all(fits_as_told(standing, fact) for fact in book.facts)]
+
+
+@functools.cache
+def kept_relations(way):
+    """Relations of 1 to 4 places, with members, that a deed keeps, or that can be taken over ("over"), or any."""
+    relations = small_relations() + relations_but_for_renaming(3)[::3]
+    relations += [Relation(4, [standing]) for standing in standings_by_trying(4)[::4]]
+    for asked in (lambda rank, others: rank > min(others), lambda rank, others: rank > max(others),
+                  lambda rank, others: rank >= min(others), lambda rank, others: rank < min(others),
+                  lambda rank, others: rank not in others, lambda rank, others: rank <= max(others)):
+        relations += [Relation(4, [row for row in standings_by_trying(4) if asked(row[0], row[1:])])]
+    relations = [relation for relation in relations if relation.places > 0 and len(relation) > 0]
+    if way == "any":
+        return relations
+    if way == "over":
+        return [relation for relation in relations if over_by_lots(relation)]
+    return [relation for relation in relations if kept_by_lots(relation, way)]
+
+
+def some_books(way, size, many, most=4):
+    """Some books of so many dates with up to so many facts that are kept so, the same ones at each run."""
+    picker = random.Random(f"{way} {size} {most}")
+    return [Book(size, [some_fact(picker, way, size) for _ in range(picker.randint(0, most) if size > 0 else 0)])
+            for _ in range(many)]
+
+
+def some_fact(picker, way, size):
+    """A fact that is kept so, now and then with a date twice or without members."""
+    places = picker.choice((1, 2, 2, 3, 3, 3, 4))
+    relation = picker.choice([row for row in kept_relations(way) if row.places == places])
+    if picker.randint(0, 40) == 0:
+        relation = Relation(places, ())
+    if places <= size and picker.randint(0, 4) > 0:
+        return (relation, picker.sample(range(size), places))
+    return (relation, picker.choices(range(size), k=places))

@@ -40,12 +40,29 @@ FUNCTIONS = {
         "earliest_lots(relation)", "rest_by(relation, lot)", "rest_after(relation, lots)", "closing_of(deed)",
         "combined_lots(closing, one, other)", "greatest_within(lots, places)", "least_holding(lots, places)",
         "equations_of(lots, places)"),
+    "rests": (
+        "all_rests(relation)", "stray_at(relation)", "stray_fault(relation, stray)", "over_by_lots(relation)",
+        "over_from(relation, stray)", "Stray(before, lot, standing)"),
+    "closings": (
+        "lacking_pair(lots, closing)", "kept_by_lots(relation, deed)", "spoilt_at(relation, deed)",
+        "spoilt_fault(relation, spoilt)", "broken_from(relation, spoilt)", "SpoiltAt(deed, before, pair)"),
+    "books": (
+        "equal_book(book)", "turned_book(book)", "book_with(book, fact)", "book_without(book, number)",
+        "fit_fault(book, dating)", "fits_book(book, dating)", "not_over(book)", "ways_of(book)", "way_of(book)",
+        "Book(size, facts)"),
+    "booktext": ("book_text(book)", "book_of_text(text)"),
+    "stripping": ("left_of(book)", "all_fitting(left)", "left_book(left)", "knot_of(book)"),
+    "finders": ("strike_rows(left)", "unstruck_dates(left)", "sums_basis(left)", "grown_lot(left, date)"),
 }
 
 METHODS = {
-    ("relations", "Relation"): ("__init__", "__len__", "__iter__", "__eq__", "holds"),
+    ("relations", "Relation"): ("__init__", "__len__", "__iter__", "__eq__", "holds(self, standing)"),
     ("keeps", "Broken"): ("__init__", "__eq__"),
     ("keeps", "BrokenOver"): ("__init__", "__eq__"),
+    ("rests", "Stray"): ("__init__", "__eq__"),
+    ("closings", "SpoiltAt"): ("__init__", "__eq__"),
+    ("books", "Book"): ("__init__", "__len__", "__eq__"),
+    ("stripping", "Left"): ("left_fact(self, number)", "misfit(self, lot)", "fits_lot(self, lot)", "take_lot(self, lot)"),
 }
 
 
@@ -64,9 +81,10 @@ class InterfaceTests(unittest.TestCase):
         for (module, name), methods in METHODS.items():
             found = vars(getattr(importlib.import_module(f"earliestlots.{module}"), name))
             for method in methods:
-                self.assertIn(method, found)
-        relation = importlib.import_module("earliestlots.relations").Relation
-        self.assertEqual(str(inspect.signature(relation.holds)), "(self, standing)")
+                name = method.split("(")[0]
+                self.assertIn(name, found)
+                if "(" in method:
+                    self.assertEqual(name + str(inspect.signature(found[name])), method)
 
     def test_generators(self):
         for module, name in (("countings", "all_standings"), ("linings", "all_linings")):

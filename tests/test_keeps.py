@@ -1,7 +1,5 @@
 """Tests of [3.9] to [3.11]."""
 
-import random
-
 from earliestlots.errors import BadDeed, TooMany
 from earliestlots.keeps import (
     Broken, BrokenOver, broken_by, broken_fault, broken_over, grown_by, grown_fault, grown_over, grown_steps, is_kept,
@@ -12,14 +10,7 @@ from earliestlots.named import (
 from earliestlots.relations import Relation, empty_relation, full_relation
 from tests.helper import (
     DEEDS, NO_DEEDS, NO_NUMBERS, NO_SEQUENCES, Checks, kept_as_told, linings_by_trying, made_as_told, over_as_told,
-    small_relations, some_relations, standings_by_trying, subsets)
-
-
-def thin_relations(places, many, most):
-    """Some relations of so many places with at most so many members, the same ones at each run."""
-    picker = random.Random(places * 100 + most)
-    standings = standings_by_trying(places)
-    return [Relation(places, picker.sample(standings, picker.randint(0, most))) for _ in range(many)]
+    small_relations, some_relations, standings_by_trying, subsets, thin_relations)
 
 
 THREE = some_relations(3, 60) + thin_relations(3, 60, 3) + [between_relation(), two_first_relation(), full_relation(3)]

@@ -9,26 +9,11 @@ from earliestlots.lots import (
 from earliestlots.named import before_relation, two_first_relation
 from earliestlots.relations import Relation, empty_relation, full_relation
 from tests.helper import (
-    NO_DEEDS, NO_SEQUENCES, Checks, part_of, small_relations, some_relations, standings_by_trying, subsets)
+    NO_DEEDS, NO_SEQUENCES, Checks, lots_as_told, rest_as_told, small_relations, some_relations, standings_by_trying,
+    subsets)
 
 RELATIONS = small_relations() + some_relations(3, 40) + some_relations(4, 12) + [
     two_first_relation(), full_relation(3), full_relation(4), empty_relation(3), empty_relation(4)]
-
-
-def front(member):
-    return tuple(place for place, rank in enumerate(member) if rank == 0)
-
-
-def lots_as_told(relation):
-    """The earliest lots, by trying all lots in their order."""
-    return tuple(lot for lot in subsets(range(relation.places))[1:] if lot in [front(row) for row in relation.members])
-
-
-def rest_as_told(relation, lot):
-    """The rest by an earliest lot."""
-    others = [place for place in range(relation.places) if place not in lot]
-    members = [part_of(member, others) for member in relation.members if front(member) == lot]
-    return Relation(len(others), members)
 
 
 class EarliestLotsTests(Checks):
