@@ -10,6 +10,7 @@ from earliestlots.books import Book
 from earliestlots.closings import kept_by_lots
 from earliestlots.relations import Relation
 from earliestlots.rests import over_by_lots
+from earliestlots.stripping import all_fitting, left_of
 
 # None of these is an integer from 0.
 NO_NUMBERS = (True, False, None, "0", "", 1.0, 0.0, -1, -7, (0,), [0], [], {}, b"0", 1j)
@@ -239,6 +240,21 @@ def datings_as_told(book):
 
 
 @functools.cache
+def _member_sets_kept_by_lesser(places):
+    """The sets of members of all relations of so many places, at most 3, that lesser keeps."""
+    found = [relation for relation in relations_but_for_renaming(places) if kept_by_lots(relation, "lesser")]
+    return {frozenset(part_of(member, order) for member in relation.members)
+            for relation in found for order in permutations(range(places))}
+
+
+def least_kept_by_lesser(relation):
+    """What all relations that lesser keeps and that have all members have in common."""
+    members = frozenset(relation.members)
+    wider = [kept for kept in _member_sets_kept_by_lesser(relation.places) if members <= kept]
+    return Relation(relation.places, list(frozenset.intersection(*wider)))
+
+
+@functools.cache
 def kept_relations(way):
     """Relations of 1 to 4 places, with members, that a deed keeps, or that can be taken over ("over"), or any."""
     relations = small_relations() + relations_but_for_renaming(3)[::3]
@@ -271,3 +287,26 @@ def some_fact(picker, way, size):
     if places <= size and picker.randint(0, 4) > 0:
         return (relation, picker.sample(range(size), places))
     return (relation, picker.choices(range(size), k=places))
+
+
+def facts_as_told(left):
+    """For each fact its dates left and its lots as sets of dates."""
+    facts = []
+    for number in range(len(left.book)):
+        relation, dates = left.left_fact(number)
+        facts.append((dates, [{dates[place] for place in lot} for lot in lots_as_told(relation)]))
+    return facts
+
+
+def some_lefts(way):
+    """What is left of some books of this way, behind some runs of lots."""
+    picker = random.Random(56)
+    lefts = []
+    for size, many in ((0, 1), (1, 6), (2, 15), (3, 25), (4, 25), (5, 15), (7, 5)):
+        for book in some_books(way, size, many, 5):
+            left = left_of(book)
+            lefts.append(left)
+            while all_fitting(left):
+                left = left.take_lot(picker.choice(all_fitting(left)))
+                lefts.append(left)
+    return lefts

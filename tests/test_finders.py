@@ -1,44 +1,16 @@
 """Tests of [5.6]."""
 
-import random
-
 from earliestlots.books import Book
 from earliestlots.errors import NoDate
 from earliestlots.finders import grown_lot, strike_rows, sums_basis, unstruck_dates
 from earliestlots.named import after_one_of, before_relation, tied_relation, two_first_relation, unlike_relation
 from earliestlots.relations import Relation, empty_relation, full_relation
 from earliestlots.stripping import all_fitting, left_of
-from tests.helper import DEEDS, NO_NUMBERS, Checks, lots_as_told, some_books, subsets
+from tests.helper import DEEDS, NO_NUMBERS, Checks, facts_as_told, some_lefts, subsets
 
 BEFORE = before_relation()
-SIZES = ((0, 1), (1, 6), (2, 15), (3, 25), (4, 25), (5, 15), (7, 5))
-
-
-def all_lefts(way):
-    """What is left of some books of this way, behind some of the runs of lots."""
-    picker = random.Random(56)
-    lefts = []
-    for size, many in SIZES:
-        for book in some_books(way, size, many, 5):
-            left = left_of(book)
-            lefts.append(left)
-            while all_fitting(left):
-                left = left.take_lot(picker.choice(all_fitting(left)))
-                lefts.append(left)
-    return lefts
-
-
-LEFTS = {way: all_lefts(way) for way in DEEDS + ("any",)}
+LEFTS = {way: some_lefts(way) for way in DEEDS + ("any",)}
 ALL_LEFTS = [left for lefts in LEFTS.values() for left in lefts]
-
-
-def facts_as_told(left):
-    """For each fact its dates left and its lots as sets of dates."""
-    facts = []
-    for number in range(len(left.book)):
-        relation, dates = left.left_fact(number)
-        facts.append((dates, [{dates[place] for place in lot} for lot in lots_as_told(relation)]))
-    return facts
 
 
 def strikes_as_told(left):
@@ -204,7 +176,7 @@ class GrownTests(Checks):
 
     def test_wrong_dates(self):
         left = left_of(Book(3, [(BEFORE, (0, 1))])).take_lot((0,))
-        for thing in tuple(row for row in NO_NUMBERS) + (0, 3, 7):
+        for thing in NO_NUMBERS + (0, 3, 7):
             self.wrong(NoDate, {"date": thing}, grown_lot, left, thing)
         self.wrong(NoDate, {"date": 0}, grown_lot, left_of(Book(0, ())), 0)
 

@@ -53,6 +53,20 @@ FUNCTIONS = {
     "booktext": ("book_text(book)", "book_of_text(text)"),
     "stripping": ("left_of(book)", "all_fitting(left)", "left_book(left)", "knot_of(book)"),
     "finders": ("strike_rows(left)", "unstruck_dates(left)", "sums_basis(left)", "grown_lot(left, date)"),
+    "papers": (
+        "strip_book(book, *, way=None)", "paper_of(left, way)", "paper_fault(left, paper)",
+        "strip_fault(book, result)", "Stripped(lots, dating)", "Stuck(lots, dates, paper)"),
+    "search": ("search_dating(book)", "misled_by(book)", "misleading_book(relation)", "Misled(lots, dating)"),
+    "clauses": (
+        "all_clauses(places)", "clause_holds(clause, standing)", "clause_implies(one, other)",
+        "broken_clause(standing, place)", "clauses_in(relation)", "least_clauses(relation)",
+        "clauses_relation(places, clauses)", "Clause(place, after, within)"),
+    "saying": (
+        "said_by(relation)", "few_clauses(relation)", "needed_members(relation, standing)",
+        "needed_fault(relation, standing, result)", "Said(clauses)", "Unsaid(standing)", "Needed(members, linings)",
+        "Barred(clause)"),
+    "rising": ("clauses_of(book)", "clause_fact(clause)", "risen_heights(size, clauses)", "Rise(size, clauses)"),
+    "earliest": ("not_lesser(book)", "earliest_dates(book)", "latest_dates(book)"),
 }
 
 METHODS = {
@@ -62,6 +76,15 @@ METHODS = {
     ("rests", "Stray"): ("__init__", "__eq__"),
     ("closings", "SpoiltAt"): ("__init__", "__eq__"),
     ("books", "Book"): ("__init__", "__len__", "__eq__"),
+    ("papers", "Stripped"): ("__init__", "__eq__"),
+    ("papers", "Stuck"): ("__init__", "__eq__"),
+    ("search", "Misled"): ("__init__", "__eq__"),
+    ("clauses", "Clause"): ("__init__", "__eq__", "width"),
+    ("saying", "Said"): ("__init__", "__eq__"),
+    ("saying", "Unsaid"): ("__init__", "__eq__"),
+    ("saying", "Needed"): ("__init__", "__eq__"),
+    ("saying", "Barred"): ("__init__", "__eq__"),
+    ("rising", "Rise"): ("__init__", "__eq__", "broken", "rise_by(self, index)"),
     ("stripping", "Left"): ("left_fact(self, number)", "misfit(self, lot)", "fits_lot(self, lot)", "take_lot(self, lot)"),
 }
 
@@ -87,6 +110,7 @@ class InterfaceTests(unittest.TestCase):
                     self.assertEqual(name + str(inspect.signature(found[name])), method)
 
     def test_generators(self):
-        for module, name in (("countings", "all_standings"), ("linings", "all_linings")):
+        for module, name in (
+                ("countings", "all_standings"), ("linings", "all_linings"), ("clauses", "all_clauses")):
             held = importlib.import_module(f"earliestlots.{module}")
             self.assertTrue(inspect.isgeneratorfunction(getattr(held, name)))

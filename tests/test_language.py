@@ -195,7 +195,8 @@ class LanguageTests(unittest.TestCase):
                     call = isinstance(parents[node], ast.Call)
                     error = isinstance(parents[node], (ast.ClassDef, ast.Tuple)) or node.id == "KeyError"
                     constant = node.id in ("True", "False", "None")
-                    self.assertTrue(call or error or constant, where)
+                    mark = node in getattr(parents[node], "decorator_list", ())
+                    self.assertTrue(call or error or constant or mark, where)
                     if call and parents[node].func is node:
                         self.assertIn(node.id, CALLED_BUILTINS, where)
             if isinstance(node, ast.FunctionDef) and node.name.startswith("__"):
@@ -243,6 +244,21 @@ class LanguageTests(unittest.TestCase):
             if isinstance(above, ast.Assign):
                 here = isinstance(above.targets[0], ast.Name)
             self.assertTrue(here, where)
+
+    def test_properties_are_read_only_and_change_nothing(self):
+        found = [(name, node) for name, node in self.functions if node.decorator_list]
+        names = [node.name for _, node in found]
+        self.assertEqual(len(names), len(set(names)))
+        for name, node in found:
+            self.assertEqual([ast.unparse(mark) for mark in node.decorator_list], ["property"], (name, node.name))
+            self.assertEqual([part.arg for part in node.args.args], ["self"])
+            for part in ast.walk(node):
+                self.assertNotIsInstance(part, (ast.Assign, ast.AugAssign, ast.Delete), (name, node.name))
+            self.assertEqual([other for _, other in self.functions if other.name == node.name], [node])
+        for node, where, parents in self.nodes():
+            if isinstance(node, ast.Attribute) and node.attr in names:
+                self.assertIsInstance(node.ctx, ast.Load, where)
+                self.assertIsNot(getattr(parents[node], "func", None), node, where)
 
     def test_loops_do_not_change_what_they_go_over(self):
         for node, where, parents in self.nodes():
