@@ -349,6 +349,8 @@ class PaperFaultTests(Checks):
         for thing in (None, "", "lesser", "Struck", 0, True, ["struck"], ("sums",), b"grown"):
             self.same(paper_fault(left, (thing, ())), "way")
             self.same(paper_fault(left, [thing, ()]), "way")
+        for thing in NO_SEQUENCES + ((), ("struck",), ("struck", (), ())):
+            self.same(paper_fault(left, thing), "way")
 
     def test_struck_papers(self):
         left = left_of(LOOP)
