@@ -2,7 +2,7 @@
 
 from earliestlots.closings import kept_by_lots
 from earliestlots.deeds import DEEDS
-from earliestlots.errors import BadBook, NoFact
+from earliestlots.errors import BadBook, NoFact, NotLesser
 from earliestlots.joining import made_equal
 from earliestlots.relations import Relation, turned_relation
 from earliestlots.rests import over_by_lots
@@ -20,7 +20,7 @@ class Book:
         if not isinstance(facts, (list, tuple)) or len(facts) > MOST_FACTS:
             raise BadBook(-1, "many")
         for index, fact in enumerate(facts):
-            fault = _fact_fault(fact, size)
+            fault = fact_fault(fact, size)
             if fault is not None:
                 raise BadBook(index, fault)
         self.size = size
@@ -33,7 +33,7 @@ class Book:
         return isinstance(other, Book) and self.size == other.size and self.facts == other.facts
 
 
-def _fact_fault(fact, size):
+def fact_fault(fact, size):
     """None if this is a fact about dates below size, else the first wrong."""
     if not isinstance(fact, (list, tuple)) or len(fact) != 2 or not isinstance(fact[1], (list, tuple)):
         return "fact"
@@ -75,10 +75,16 @@ def check_fact_number(book, number):
 def fit_fault(book, dating):
     """The number of the first fact that the dating does not fit, or None."""
     ranks = check_standing(dating, book.size)
-    for number, (relation, dates) in enumerate(book.facts):
-        if not relation.holds(standing_of([ranks[date] for date in dates])):
+    for number, fact in enumerate(book.facts):
+        if not fits_fact(fact, ranks):
             return number
     return None
+
+
+def fits_fact(fact, ranks):
+    """Whether the standing fits the fact; nothing is checked."""
+    relation, dates = fact
+    return relation.holds(standing_of([ranks[date] for date in dates]))
 
 
 def fits_book(book, dating):
@@ -100,6 +106,13 @@ def not_kept(book, deed):
         if not kept_by_lots(relation, deed):
             return number
     return None
+
+
+def check_lesser(book):
+    """NotLesser with the number of the first fact that, made equal, is not kept by lesser."""
+    fact = not_kept(book, "lesser")
+    if fact is not None:
+        raise NotLesser(fact)
 
 
 def ways_of(book):

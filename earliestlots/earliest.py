@@ -1,7 +1,6 @@
 """Earliest and latest dates of books that lesser keeps ([7.1], [7.2])."""
 
-from earliestlots.books import not_kept, turned_book
-from earliestlots.errors import NotLesser
+from earliestlots.books import check_lesser, not_kept, turned_book
 from earliestlots.papers import Stuck, strip_book
 from earliestlots.standings import turned_standing
 
@@ -13,9 +12,7 @@ def not_lesser(book):
 
 def earliest_dates(book):
     """The dating at which no date is later than in any other dating, or a Stuck if there is none."""
-    fact = not_lesser(book)
-    if fact is not None:
-        raise NotLesser(fact)
+    check_lesser(book)
     outcome = strip_book(book, way="lesser")
     return outcome if isinstance(outcome, Stuck) else outcome.dating
 

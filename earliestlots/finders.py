@@ -8,7 +8,12 @@ from earliestlots.stripping import part_in
 
 def strike_rows(left):
     """The rows (date, fact) in which dates are struck until none can be."""
-    unstruck = list(left.dates)
+    return _strikes_within(left, left.dates)
+
+
+def _strikes_within(left, dates):
+    """The rows in which dates of these are struck until none can be, when the other dates left count as struck."""
+    unstruck = list(dates)
     rows = []
     row = _next_strike(left, unstruck)
     while row is not None:
@@ -34,8 +39,13 @@ def stands_in_none(lots, date, unstruck):
 
 def unstruck_dates(left):
     """The dates left that are never struck, ascending."""
-    struck = [date for date, _ in strike_rows(left)]
-    return tuple([date for date in left.dates if date not in struck])
+    return unstruck_within(left, left.dates)
+
+
+def unstruck_within(left, dates):
+    """The dates of these in which every fitting lot of these lies: the greatest one if lesser keeps the book, or ()."""
+    struck = [date for date, _ in _strikes_within(left, dates)]
+    return tuple([date for date in dates if date not in struck])
 
 
 def fact_equations(left):

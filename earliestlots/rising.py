@@ -1,9 +1,9 @@
 """Clauses about dates, and heights that rise until no clause is broken ([6.11] to [6.13])."""
 
-from earliestlots.books import equal_book, not_kept
+from earliestlots.books import check_lesser, equal_book
 from earliestlots.clauses import Clause, clause_places, holds_in, least_clauses, sorted_clauses
 from earliestlots.countings import all_standings
-from earliestlots.errors import BadCount, NotBroken, NotLesser, OtherPlaces, TooMany
+from earliestlots.errors import BadCount, NotBroken, OtherPlaces, TooMany
 from earliestlots.relations import MOST_RELATED, Relation
 from earliestlots.standings import MOST_PLACES, is_whole
 
@@ -80,9 +80,7 @@ def risen_heights(size, clauses):
 
 def clauses_of(book):
     """The unlike clauses of all facts of a book that lesser keeps, about its dates, in the order of clauses."""
-    fact = not_kept(book, "lesser")
-    if fact is not None:
-        raise NotLesser(fact)
+    check_lesser(book)
     return sorted_clauses([_dated_clause(clause, dates) for relation, dates in equal_book(book).facts
                            for clause in least_clauses(relation)])
 

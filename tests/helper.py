@@ -21,6 +21,11 @@ NO_SEQUENCES = (None, 0, 3, True, "", "01", b"", {}, {0: 0}, {0}, range(2), iter
 # Some things that are no standings, and the index that BadStanding tells.
 NO_STANDINGS = ((None, -1), ("0", -1), ((0, 2), -1), ((0, True), 1), ((0,) * 8, -1), ((-1,), 0), ((1,), -1))
 
+# Some things that are no standings of 2 places, and the index that BadStanding tells.
+NO_STANDINGS_OF_2 = (
+    (None, -1), ("01", -1), ({0: 0, 1: 1}, -1), ((), -1), ((0,), -1), ((0, 1, 2), -1), ((True, 0, 0), -1), ((0, 2), -1),
+    ((1, 1), -1), ([0, 9], -1), ((0, True), 1), ([False, 1.0], 0), ((-1, None), 0), ((0, "0"), 1), ((9, None), 1))
+
 # None of these is a deed.
 NO_DEEDS = (None, "", "Lesser", "lesser ", "joining", 0, True, ["lesser"], ("odd",), {}, b"odd", 1.0)
 

@@ -67,6 +67,18 @@ FUNCTIONS = {
         "Barred(clause)"),
     "rising": ("clauses_of(book)", "clause_fact(clause)", "risen_heights(size, clauses)", "Rise(size, clauses)"),
     "earliest": ("not_lesser(book)", "earliest_dates(book)", "latest_dates(book)"),
+    "numbering": (
+        "check_numbers(book, numbers)", "numbers_fit(book, numbers)", "lesser_numbers(book, one, other)",
+        "earliest_from(book, floors)", "put_off(book, numbers, date, moment)",
+        "dated_within(book, floors, ceilings)", "earliest_fault(book, numbers, *, floors=None)", "Late(date, number)"),
+    "works": (
+        "rounds_of(works)", "is_knot(works, numbers)", "greatest_knot(works)", "works_book(works)", "Works(waits)"),
+    "alldatings": (
+        "all_datings(book)", "count_datings(book)", "number_of_dating(book, dating)", "dating_of_number(book, number)"),
+    "rules": ("broken_rule(rules, dating)", "Rule(premises, end)", "Rules(size, rules)"),
+    "rulesteps": (
+        "show_rule(rules, rule)", "steps_fault(rules, rule, steps)", "Shown(steps)", "NotShown(dating)"),
+    "ruleclosing": ("close_rules(rules)", "apart_dating(closed)", "Closed(classes, pairs)", "Never(steps)"),
 }
 
 METHODS = {
@@ -85,6 +97,14 @@ METHODS = {
     ("saying", "Needed"): ("__init__", "__eq__"),
     ("saying", "Barred"): ("__init__", "__eq__"),
     ("rising", "Rise"): ("__init__", "__eq__", "broken", "rise_by(self, index)"),
+    ("numbering", "Late"): ("__init__", "__eq__"),
+    ("works", "Works"): ("__init__", "__len__", "__eq__"),
+    ("rules", "Rule"): ("__init__", "__eq__"),
+    ("rules", "Rules"): ("__init__", "__len__", "__iter__", "__eq__"),
+    ("rulesteps", "Shown"): ("__init__", "__eq__"),
+    ("rulesteps", "NotShown"): ("__init__", "__eq__"),
+    ("ruleclosing", "Closed"): ("__init__", "__eq__"),
+    ("ruleclosing", "Never"): ("__init__", "__eq__"),
     ("stripping", "Left"): ("left_fact(self, number)", "misfit(self, lot)", "fits_lot(self, lot)", "take_lot(self, lot)"),
 }
 
@@ -111,6 +131,7 @@ class InterfaceTests(unittest.TestCase):
 
     def test_generators(self):
         for module, name in (
-                ("countings", "all_standings"), ("linings", "all_linings"), ("clauses", "all_clauses")):
+                ("countings", "all_standings"), ("linings", "all_linings"), ("clauses", "all_clauses"),
+                ("alldatings", "all_datings")):
             held = importlib.import_module(f"earliestlots.{module}")
             self.assertTrue(inspect.isgeneratorfunction(getattr(held, name)))
