@@ -43,7 +43,7 @@ def made_by(deed, one, other, lining):
     return made_by_table(deed_table(deed, check_lining(one, other, lining)), one, other)
 
 
-def _check_over(one, cut, other):
+def check_over(one, cut, other):
     """The errors of taking over."""
     ranks = ranks_number(one)
     if not is_whole(cut, 0, ranks):
@@ -55,7 +55,7 @@ def _check_over(one, cut, other):
 
 def taken_over(one, cut, other):
     """One's ranks below the cut, then all other places as they stand in other."""
-    _check_over(one, cut, other)
+    check_over(one, cut, other)
     return over_of(one, cut, other)
 
 
@@ -66,7 +66,7 @@ def over_of(one, cut, other):
 
 def over_lining(one, cut, other):
     """The lining with one's ranks below the cut, then other's, then the other ranks of one."""
-    _check_over(one, cut, other)
+    check_over(one, cut, other)
     behind = ranks_number(one) - cut
     return (ONE_ALONE,) * cut + (OTHER_ALONE,) * ranks_number(other) + (ONE_ALONE,) * behind
 

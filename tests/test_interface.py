@@ -79,6 +79,15 @@ FUNCTIONS = {
     "rulesteps": (
         "show_rule(rules, rule)", "steps_fault(rules, rule, steps)", "Shown(steps)", "NotShown(dating)"),
     "ruleclosing": ("close_rules(rules)", "apart_dating(closed)", "Closed(classes, pairs)", "Never(steps)"),
+    "sortings": ("sorted_over(one, cut, other)", "broken_sorting(relation)", "BrokenSorting(one, cut, other)"),
+    "ruled": ("rules_for(relation)", "rules_book(rules)", "book_rules(book)", "NotRuled(standing)"),
+    "following": ("fact_follows(book, fact)", "may_be(book, fact)", "surely_shown(book, dates)"),
+    "mends": ("struck_mends(book)", "least_clashes(book)"),
+    "picking": ("pick_facts(book, pool, wishes)",),
+    "edits": (
+        "check_edit(book, edit)", "edited_book(book, edit)", "edited_through(book, edits)",
+        "led_back(book, edit, dating)"),
+    "bench": ("Bench(start)",),
 }
 
 METHODS = {
@@ -105,6 +114,11 @@ METHODS = {
     ("rulesteps", "NotShown"): ("__init__", "__eq__"),
     ("ruleclosing", "Closed"): ("__init__", "__eq__"),
     ("ruleclosing", "Never"): ("__init__", "__eq__"),
+    ("sortings", "BrokenSorting"): ("__init__", "__eq__"),
+    ("ruled", "NotRuled"): ("__init__", "__eq__"),
+    ("bench", "Bench"): (
+        "__init__", "__len__", "__iter__", "put_edit(self, edit)", "put_all(self, edits)", "take_back(self, many=1)",
+        "outcome(self)", "lead_back(self, dating)", "tried(self, work)"),
     ("stripping", "Left"): ("left_fact(self, number)", "misfit(self, lot)", "fits_lot(self, lot)", "take_lot(self, lot)"),
 }
 
