@@ -3,8 +3,7 @@
 from earliestlots.books import Book
 from earliestlots.named import before_relation
 from earliestlots.relations import Relation
-from tests.helper import NO_NUMBERS, NO_SEQUENCES, ranked, some_fact, standings_by_trying
-from tests.test_following import NO_FACTS
+from tests.helper import NO_FACTS, NO_NUMBERS, NO_SEQUENCES, ranked, some_fact, standings_by_trying
 
 BEFORE = before_relation()
 

@@ -31,6 +31,14 @@ NO_DEEDS = (None, "", "Lesser", "lesser ", "joining", 0, True, ["lesser"], ("odd
 
 DEEDS = ("lesser", "odd", "common")
 
+# Things that are no facts of a book of 2 dates, and the word of BadBook.
+BEFORE = Relation(2, [(0, 1)])
+NO_FACTS = [(wrong, "fact") for wrong in NO_SEQUENCES] + [
+    ((BEFORE,), "fact"), ((BEFORE, (0, 1), 0), "fact"), ((BEFORE, {0, 1}), "fact"), ((BEFORE, "01"), "fact"),
+    ((None, (0, 1)), "places"), ((BEFORE, (0,)), "places"), ((BEFORE, (0, 1, 1)), "places"),
+    ((Relation(0, [()]), ()), "places"), (((0, 1), (0, 1)), "places"), ((BEFORE, (0, 2)), "date"),
+    ([BEFORE, [0, -1]], "date"), ((BEFORE, (True, 0)), "date"), ((BEFORE, (None, "")), "date")]
+
 
 class Checks(unittest.TestCase):
     """A test case that also looks at the attributes of errors, and within what is returned."""

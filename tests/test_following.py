@@ -11,7 +11,7 @@ from earliestlots.papers import Stripped, strip_book
 from earliestlots.relations import Relation, empty_relation, full_relation
 from earliestlots.rests import over_by_lots
 from tests.helper import (
-    DEEDS, NO_NUMBERS, NO_SEQUENCES, Checks, datings_as_told, fits_as_told, part_of, some_books, some_fact)
+    DEEDS, NO_FACTS, NO_NUMBERS, NO_SEQUENCES, Checks, datings_as_told, fits_as_told, part_of, some_books, some_fact)
 
 BEFORE = before_relation()
 SIZES = ((0, 1), (1, 4), (2, 12), (3, 20), (4, 10), (5, 3))
@@ -21,13 +21,6 @@ LOOP = Book(2, [(BEFORE, (0, 1)), (BEFORE, (1, 0))])
 LARGE = Book(7, [(BEFORE, (0, 1))] * 12)
 FULL = Book(6, [(BEFORE, (0, 1))] * 12)
 CHAIN = Book(3, [(BEFORE, (0, 1)), (BEFORE, (1, 2))])
-
-# Facts that are none of a book of 2 dates, and the word of BadBook.
-NO_FACTS = [(wrong, "fact") for wrong in NO_SEQUENCES] + [
-    ((BEFORE,), "fact"), ((BEFORE, (0, 1), 0), "fact"), ((BEFORE, {0, 1}), "fact"), ((BEFORE, "01"), "fact"),
-    ((None, (0, 1)), "places"), ((BEFORE, (0,)), "places"), ((BEFORE, (0, 1, 1)), "places"),
-    ((Relation(0, [()]), ()), "places"), (((0, 1), (0, 1)), "places"), ((BEFORE, (0, 2)), "date"),
-    ([BEFORE, [0, -1]], "date"), ((BEFORE, (True, 0)), "date"), ((BEFORE, (None, "")), "date")]
 
 
 def some_cases():

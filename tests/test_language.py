@@ -270,3 +270,20 @@ class LanguageTests(unittest.TestCase):
                             self.assertNotIn(ast.unparse(part.func.value), over, where)
                     if isinstance(part, ast.Subscript) and not isinstance(part.ctx, ast.Load):
                         self.assertNotIn(ast.unparse(part.value), over, where)
+
+    def test_what_stands_behind_finally(self):
+        plain = (ast.Assign, ast.Name, ast.Attribute, ast.Tuple, ast.Load, ast.Store)
+        for node, where, parents in self.nodes():
+            if isinstance(node, ast.Try):
+                for part in [part for row in node.finalbody for part in ast.walk(row)]:
+                    self.assertIsInstance(part, plain, where)
+
+    def test_operators_and_iteration(self):
+        for node, where, parents in self.nodes():
+            if isinstance(node, ast.FunctionDef) and node.name == "__iter__":
+                self.assertRegex(ast.unparse(node.body[-1]), r"^return iter\(self\.[a-z_]+\)$", where)
+                self.assertEqual(len(node.body), 1, where)
+            if isinstance(node, ast.FunctionDef) and node.name == "__len__":
+                self.assertRegex(ast.unparse(node.body[-1]), r"^return len\(self\.[a-z_]+\)$", where)
+            if isinstance(node, ast.FunctionDef) and node.name == "__eq__":
+                self.assertRegex(ast.unparse(node.body[-1]), r"^return isinstance\(other, [A-Z][A-Za-z]+\) and self", where)

@@ -7,8 +7,7 @@ from earliestlots.errors import BadPool, BadWish, TooMany
 from earliestlots.named import before_relation, not_after_relation, tied_relation, unlike_relation
 from earliestlots.picking import pick_facts
 from earliestlots.relations import Relation
-from tests.helper import NO_SEQUENCES, Checks, datings_as_told, fits_as_told, some_books, some_fact, subsets
-from tests.test_following import NO_FACTS
+from tests.helper import NO_FACTS, NO_SEQUENCES, Checks, datings_as_told, fits_as_told, some_books, some_fact, subsets
 
 BEFORE = before_relation()
 DATED = [("dated",)]
